@@ -1,0 +1,1 @@
+"""Marginwords: remarks hung on stretches of a text that many hands change."""

@@ -1,0 +1,42 @@
+"""What kind a thing is: NUMBERS, WORDS, LETTERS, NAMES, SIGNS."""
+
+WORD_LENGTH = 8
+LETTERS_LENGTH = 12
+
+
+def is_number(thing):
+    """Whether it is an int that is no truth."""
+    return isinstance(thing, int) and not isinstance(thing, bool)
+
+
+def is_small(sign):
+    """Whether a text of one sign is a letter from a to z."""
+    return "a" <= sign <= "z"
+
+
+def is_word(thing):
+    """Whether it is a text of one to eight small letters."""
+    if not isinstance(thing, str):
+        return False
+    return 1 <= len(thing) <= WORD_LENGTH and all(is_small(sign) for sign in thing)
+
+
+def is_letters(thing):
+    """Whether it is a text of one to twelve small letters and blanks."""
+    if not isinstance(thing, str):
+        return False
+    return 1 <= len(thing) <= LETTERS_LENGTH and all(is_small(sign) or sign == " " for sign in thing)
+
+
+def is_name(thing):
+    """Whether it is a tuple of a NUMBER from 1 on and a WORD."""
+    if not isinstance(thing, tuple) or len(thing) != 2:
+        return False
+    return is_number(thing[0]) and thing[0] >= 1 and is_word(thing[1])
+
+
+def is_sign(thing):
+    """Whether it is by kind a SIGN or, what looks alike, a SLOT: (count, branch, k)."""
+    if not isinstance(thing, tuple) or len(thing) != 3:
+        return False
+    return is_name(thing[:2]) and is_number(thing[2]) and thing[2] >= 0
