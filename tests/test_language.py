@@ -32,6 +32,19 @@ INTERFACE = {
         "without": ["ledger", "names"],
     },
     "joining": {"joined": ["one", "other"], "common": ["one", "other"], "is_part": ["one", "other"]},
+    "roads": {
+        "is_road": ["ledger", "thing"], "road_by_names": ["ledger"], "exchanged": ["road", "k"],
+        "unlike_pairs": ["one", "other"],
+    },
+    "exchangechecker": {"lets_exchanges": ["ledger", "one", "other", "thing"]},
+    "exchanges": {"exchange_paper": ["ledger", "one", "other"]},
+    "laying": {"slot_rows": ["ledger"]},
+    "order": {"slot_order": ["ledger"]},
+    "orderchecker": {"lets_order": ["ledger", "thing"]},
+    "showing": {
+        "all_signs": ["ledger"], "touches": ["ledger", "sign"], "moves_of": ["ledger", "sign"],
+        "is_shown": ["ledger", "sign"], "slot_of": ["ledger", "sign"],
+    },
 }
 
 
