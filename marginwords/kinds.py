@@ -4,6 +4,11 @@ WORD_LENGTH = 8
 LETTERS_LENGTH = 12
 
 
+def is_tuple_of(many, thing):
+    """Whether it is a tuple of so many things."""
+    return isinstance(thing, tuple) and len(thing) == many
+
+
 def is_number(thing):
     """Whether it is an int that is no truth."""
     return isinstance(thing, int) and not isinstance(thing, bool)
@@ -30,13 +35,20 @@ def is_letters(thing):
 
 def is_name(thing):
     """Whether it is a tuple of a NUMBER from 1 on and a WORD."""
-    if not isinstance(thing, tuple) or len(thing) != 2:
+    if not is_tuple_of(2, thing):
         return False
     return is_number(thing[0]) and thing[0] >= 1 and is_word(thing[1])
 
 
 def is_sign(thing):
     """Whether it is by kind a SIGN or, what looks alike, a SLOT: (count, branch, k)."""
-    if not isinstance(thing, tuple) or len(thing) != 3:
+    if not is_tuple_of(3, thing):
         return False
     return is_name(thing[:2]) and is_number(thing[2]) and thing[2] >= 0
+
+
+def is_just(thing, told):
+    """Whether a thing is just what was told (tuples, NUMBERS, texts, None): True is no 1."""
+    if isinstance(thing, tuple) and isinstance(told, tuple):
+        return len(thing) == len(told) and all(is_just(one, other) for one, other in zip(thing, told))
+    return not isinstance(thing, bool) and thing == told

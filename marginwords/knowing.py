@@ -14,17 +14,27 @@ def by_name(ledger):
     return {change[0]: change for change in ledger}
 
 
+def elders_by(base, found):
+    """The NAMES of a base and all that these know, as keys of a dict; what they know was found under them."""
+    elders = {name: True for name in base}
+    for name in base:
+        for elder in found[name]:
+            elders[elder] = True
+    return elders
+
+
 def knowledge(ledger):
     """Under each NAME of a LEDGER the NAMES that its CHANGE knows, as keys of a dict."""
     found = {}
     for change in ledger:
         # Names rise with knowing: what a base names has been found already.
-        elders = {name: True for name in change[2]}
-        for name in change[2]:
-            for elder in found[name]:
-                elders[elder] = True
-        found[change[0]] = elders
+        found[change[0]] = elders_by(change[2], found)
     return found
+
+
+def next_count(elders):
+    """The count of a CHANGE that knows these NAMES and no others."""
+    return 1 + max([name[0] for name in elders], default=0)
 
 
 def change_of(ledger, name):

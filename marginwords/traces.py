@@ -11,11 +11,17 @@ NO_TRACE = ((), (), ())
 
 def order_of(rows):
     """The ORDER of SLOTS, of their rows rising."""
-    order = []
+    # Under each SLOT the one right behind it, under () the first one.
+    behind = {}
     for slot, parent, sign in rows:
         # The greatest name so far goes ahead of all else beneath its PARENT: right behind this.
-        at = 0 if parent == () else order.index(parent) + 1
-        order.insert(at, slot)
+        behind[slot] = behind.get(parent)
+        behind[parent] = slot
+    order = []
+    slot = behind.get(())
+    while slot is not None:
+        order.append(slot)
+        slot = behind[slot]
     return order
 
 
@@ -86,11 +92,21 @@ def trace_of(name, deed, past, found):
     return NO_TRACE
 
 
+def past_of(elders, found):
+    """The PAST of these elders, of the TRACES found under their NAMES, which rise."""
+    return [found[name] for name in found if name in elders]
+
+
 def traces(ledger):
     """The TRACES of all CHANGES of a LEDGER, under their NAMES, which rise."""
     elders = knowledge(ledger)
     found = {}
     for name, hand, base, deed in ledger:
-        past = [found[elder] for elder in found if elder in elders[name]]
+        past = past_of(elders[name], found)
         found[name] = trace_of(name, deed, past, found)
     return found
+
+
+def whole_past(ledger):
+    """The PAST of a LEDGER."""
+    return list(traces(ledger).values())

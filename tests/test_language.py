@@ -45,6 +45,16 @@ INTERFACE = {
         "all_signs": ["ledger"], "touches": ["ledger", "sign"], "moves_of": ["ledger", "sign"],
         "is_shown": ["ledger", "sign"], "slot_of": ["ledger", "sign"],
     },
+    "texts": {"letter_of": ["ledger", "sign"], "signs": ["ledger"], "text": ["ledger"]},
+    "fitting": {"misfit": ["ledger", "hand", "deed"]},
+    "ledgers": {"lets_ledger": ["thing"]},
+    "making": {"made": ["ledger", "branch", "hand", "deed"], "laid_on": ["ledger", "change"]},
+    "spans": {"remarks": ["ledger"], "span": ["ledger", "remark"], "in_span": ["ledger", "remark", "slot"]},
+    "holding": {
+        "within": ["ledger", "remark", "slot"], "hold_word": ["ledger", "remark", "sign"],
+        "held": ["ledger", "remark"],
+    },
+    "holdchecker": {"lets_held": ["ledger", "remark", "thing"]},
 }
 
 
