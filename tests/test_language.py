@@ -55,7 +55,14 @@ INTERFACE = {
         "held": ["ledger", "remark"],
     },
     "holdchecker": {"lets_held": ["ledger", "remark", "thing"]},
+    "holdpapers": {"hold_paper": ["ledger", "remark"]},
+    "stands": {"stand": ["ledger", "remark"], "look": ["ledger", "remark"]},
+    "losing": {"last_row": ["ledger", "sign"], "loser": ["ledger", "remark"]},
+    "losschecker": {"lets_loss": ["ledger", "remark", "name", "thing"]},
+    "losspapers": {"loss_paper": ["ledger", "remark"]},
+    "talking": {"answers": ["ledger", "remark"], "decided": ["ledger", "remark"]},
 }
+OWN_ERRORS = set("NoPaper NoChange NoJoin NoName NoBase NoBranch NoStrike NoText NoRow".split())
 
 
 def tree_of(path):
@@ -141,10 +148,15 @@ class Rules(unittest.TestCase):
                     self.assertIn(node.func.attr, METHODS, path.name)
 
     def test_statements_and_expressions(self):
-        barred = (ast.Global, ast.AsyncFunctionDef, ast.Await, ast.Div, ast.Starred, ast.SetComp, ast.Set, ast.Try)
+        barred = (ast.Global, ast.AsyncFunctionDef, ast.Await, ast.Div, ast.Starred, ast.SetComp, ast.Set)
         for path in FILES:
             for node in ast.walk(tree_of(path)):
                 self.assertNotIsInstance(node, barred, (path.name, getattr(node, "lineno", 0)))
+                if isinstance(node, ast.Try):
+                    self.assertEqual((node.orelse, node.finalbody), ([], []), path.name)
+                if isinstance(node, ast.ExceptHandler):
+                    self.assertIsInstance(node.type, ast.Name, path.name)
+                    self.assertIn(node.type.id, OWN_ERRORS, path.name)
                 if isinstance(node, ast.Constant):
                     self.assertNotIsInstance(node.value, (float, complex), path.name)
                     self.assertFalse(isinstance(node.value, str) and "%" in node.value, path.name)

@@ -99,6 +99,10 @@ class LaidOn(unittest.TestCase):
         for change, told in (
             (TWO[1], ("rise", 2)),
             (((2, "b"), "bob", ((1, "ann"),), ("put", 0, "other")), ("rise", 2)),
+            # of a name that is there it stands behind: so what else is wrong with it is not told
+            (((2, "b"), "bob", (), ("put", 0, "x")), ("rise", 2)),
+            (((2, "b"), "bob", ((2, "dd"),), ("put", 9, "x")), ("rise", 2)),
+            (((2, "cyr"), "bob", ((1, "ann"),), ("join",)), ("rise", 3)),
             (((3, "b"), "bob", ((2, "b"), (2, "dd")), ("join",)), ("base", 3)),
             (((2, "a"), "bob", ((1, "zz"),), ("put", 0, "x")), ("base", 1)),
             (((2, "bb"), "bob", ((2, "b"),), ("put", 0, "x")), ("count", 2)),
