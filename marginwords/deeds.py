@@ -28,14 +28,21 @@ def is_of_kind(kind, thing):
     return thing == "shut" or thing == "wide"
 
 
+def begins_deed(thing):
+    """Whether it is the first word of a DEED."""
+    return isinstance(thing, str) and thing in PARTS
+
+
+def kinds_behind(word):
+    """The kinds of what follows the first word of a DEED."""
+    return PARTS[word]
+
+
 def is_deed(thing):
     """Whether it is a DEED by kind, whether it fits anything or not."""
-    if not isinstance(thing, tuple) or len(thing) == 0:
+    if not isinstance(thing, tuple) or len(thing) == 0 or not begins_deed(thing[0]):
         return False
-    word = thing[0]
-    if not isinstance(word, str) or word not in PARTS:
-        return False
-    kinds = PARTS[word]
+    kinds = kinds_behind(thing[0])
     if len(thing) != len(kinds) + 1:
         return False
     return all(is_of_kind(kind, part) for kind, part in zip(kinds, thing[1:]))
@@ -43,5 +50,5 @@ def is_deed(thing):
 
 def names_in(deed):
     """The NAMES that a DEED speaks of."""
-    kinds = PARTS[deed[0]]
+    kinds = kinds_behind(deed[0])
     return tuple(part for kind, part in zip(kinds, deed[1:]) if kind == "name")

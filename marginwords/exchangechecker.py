@@ -1,14 +1,9 @@
 """A look at EXCHANGE PAPERS, whoever wrote them."""
 
 from marginwords.errors import NoPaper
-from marginwords.kinds import is_number
+from marginwords.kinds import is_place
 from marginwords.knowing import knowledge
 from marginwords.roads import exchanged
-
-
-def is_place(road, thing):
-    """Whether NAMES of the ROAD stand at this place and at the next one."""
-    return is_number(thing) and 0 <= thing <= len(road) - 2
 
 
 def lets_exchanges(ledger, one, other, thing):
@@ -16,7 +11,8 @@ def lets_exchanges(ledger, one, other, thing):
     if not isinstance(thing, tuple):
         raise NoPaper("shape", -1)
     for k, place in enumerate(thing):
-        if not is_place(one, place):
+        # A NAME has to stand behind it, too: so the last place is none of these.
+        if not is_place(len(one) - 1, place):
             raise NoPaper("place", k)
     elders = knowledge(ledger)
     road = one

@@ -2,7 +2,7 @@
 
 from marginwords.errors import NoPaper
 from marginwords.holding import hold_entries
-from marginwords.kinds import is_just, is_tuple_of
+from marginwords.kinds import is_just, is_tuple_of, is_two_tuples
 from marginwords.order import slot_order
 from marginwords.spans import hang_of
 
@@ -29,7 +29,7 @@ def lets_held(ledger, remark, thing):
 
 def look_at_shape(thing):
     """Refuse what is no tuple of two tuples, the second one of tuples of three."""
-    if not is_tuple_of(2, thing) or not isinstance(thing[0], tuple) or not isinstance(thing[1], tuple):
+    if not is_two_tuples(thing):
         raise NoPaper("shape", -1)
     for k, entry in enumerate(thing[1]):
         if not is_tuple_of(3, entry):

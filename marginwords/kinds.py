@@ -9,9 +9,24 @@ def is_tuple_of(many, thing):
     return isinstance(thing, tuple) and len(thing) == many
 
 
+def is_two_tuples(thing):
+    """Whether it is a tuple of two tuples."""
+    return is_tuple_of(2, thing) and isinstance(thing[0], tuple) and isinstance(thing[1], tuple)
+
+
+def is_rising(row):
+    """Whether each of these, which can be compared, is greater than the one ahead of it."""
+    return all(lesser < greater for lesser, greater in zip(row, row[1:]))
+
+
 def is_number(thing):
     """Whether it is an int that is no truth."""
     return isinstance(thing, int) and not isinstance(thing, bool)
+
+
+def is_place(many, thing):
+    """Whether it is a NUMBER of one of so many places, counted from 0."""
+    return is_number(thing) and 0 <= thing < many
 
 
 def is_small(sign):

@@ -3,6 +3,7 @@
 from marginwords.changes import is_change
 from marginwords.errors import NoPaper
 from marginwords.fitting import misfit_of
+from marginwords.kinds import is_rising
 from marginwords.knowing import elders_by, next_count
 from marginwords.traces import past_of, text_of, trace_of
 
@@ -38,7 +39,7 @@ def lets_ledger(thing):
 
 def is_base_on(known_to, base):
     """Whether it rises, names entries ahead only, and none that another one of it knows."""
-    if not all(lesser < greater for lesser, greater in zip(base, base[1:])):
+    if not is_rising(base):
         return False
     if not all(name in known_to for name in base):
         return False

@@ -2,7 +2,7 @@
 
 from marginwords.knowing import change_of
 from marginwords.laying import slot_rows
-from marginwords.traces import signs_of, traces
+from marginwords.traces import signs_of, slots_of, traces, whole_past
 
 
 def all_signs(ledger):
@@ -29,7 +29,20 @@ def is_shown(ledger, sign):
     return touched == () or change_of(ledger, touched[-1])[3][0] == "back"
 
 
+def last_touches(ledger):
+    """Under each SIGN that was ever touched its last TOUCH."""
+    found = traces(ledger)
+    return {sign: name for name in found for sign in found[name][1] + found[name][2]}
+
+
 def slot_of(ledger, sign):
     """The SLOT in which a SIGN stands."""
     # Rows rise, so the SLOT that the greatest move laid for it comes last.
     return [slot for slot, parent, standing in slot_rows(ledger) if standing == sign][-1]
+
+
+def slots_and_touches(ledger):
+    """(slot, touch) for each SIGN, rising: the SLOT in which it stands, and its last TOUCH, None where it has none."""
+    slots = slots_of(whole_past(ledger))
+    last = last_touches(ledger)
+    return tuple((slots[sign], last.get(sign)) for sign in all_signs(ledger))

@@ -1,4 +1,4 @@
-"""The words of points [3] to [5], [15] to [17], [25], [26], [37] to [46] once more, as slowly and plainly as can be.
+"""The words of points [3] to [5], [15] to [17], [25], [26], [37] to [48], [59] once more, as slowly as can be.
 
 The tests hold the program against it; nothing here asks the program.
 """
@@ -295,3 +295,54 @@ def stand(ledger, remark):
 def look(ledger, remark):
     word, parts = stand(ledger, remark)
     return tuple(text(ledger)[begin:end] for begin, end in parts) if word == "there" else ()
+
+
+def decided(ledger, remark):
+    last = max(said(ledger, ["settle", "open"], remark), default=None)
+    return last and (deed_of(ledger, last)[0], last)
+
+
+def looks_behind(ledger, remark, settle):
+    """The LOOK when it was settled, and those behind each further CHANGE: (name, look)."""
+    laid = elders(ledger, settle) | {settle}
+    rows = []
+    for change in ledger:
+        if change[0] not in laid:
+            laid = laid | {change[0]}
+            part = tuple(each for each in ledger if each[0] in laid)
+            rows.append((change[0], look(part, remark)))
+    return look(known(ledger, settle), remark), rows
+
+
+def is_up(ledger, remark):
+    word, name = decided(ledger, remark) or (None, None)
+    return word == "settle" and look(ledger, remark) != look(known(ledger, name), remark)
+
+
+def caller(ledger, remark):
+    if not is_up(ledger, remark):
+        return None
+    then, rows = looks_behind(ledger, remark, decided(ledger, remark)[1])
+    return next(
+        name for k, (name, _) in enumerate(rows) if all(later != then for _, later in rows[k:])
+    )
+
+
+def word_of(ledger, remark):
+    if stand(ledger, remark)[0] in ("unsaid", "lost"):
+        return stand(ledger, remark)[0]
+    if is_up(ledger, remark):
+        return "up"
+    return "settled" if (decided(ledger, remark) or ("open",))[0] == "settle" else "open"
+
+
+def freeing_sets(ledger, remark):
+    """All sets of NAMES by which a REMARK is FREED, the smallest first, as rising tuples."""
+    inside = elders(ledger, remark) | {remark}
+    strange = [change[0] for change in ledger if change[0] not in inside]
+    for many in range(len(strange) + 1):
+        for names in itertools.combinations(strange, many):
+            left = tuple(change for change in ledger if change[0] not in names)
+            closed = all(not elders(ledger, change[0]) & set(names) for change in left)
+            if closed and stand(left, remark)[0] == "there":
+                yield names

@@ -16,7 +16,8 @@ BUILTINS = set(
 METHODS = set(
     """append clear copy count endswith extend find get index insert isalnum isalpha isdigit islower isspace isupper
     items join keys ljust lower lstrip partition pop remove replace reverse rfind rjust rpartition rsplit rstrip
-    setdefault split splitlines startswith strip update upper values zfill bit_length add discard sort""".split()
+    setdefault split splitlines startswith strip update upper values zfill bit_length add discard sort
+    removeprefix""".split()
 )
 BARRED_WORDS = """type typing enum Enum Flag Generic Protocol ABC namedtuple NamedTuple TypedDict dataclass
     overload contextmanager abstractmethod""".split()
@@ -61,7 +62,17 @@ INTERFACE = {
     "losschecker": {"lets_loss": ["ledger", "remark", "name", "thing"]},
     "losspapers": {"loss_paper": ["ledger", "remark"]},
     "talking": {"answers": ["ledger", "remark"], "decided": ["ledger", "remark"]},
+    "calling": {"is_up": ["ledger", "remark"], "caller": ["ledger", "remark"], "word_of": ["ledger", "remark"]},
+    "keeping": {"kept": ["one", "other"], "falling_rows": ["one", "other"], "keep_paper": ["one", "other"]},
+    "keepchecker": {"lets_kept": ["one", "other", "thing"]},
+    "scripts": {
+        "applied": ["row", "thing"], "shortest_steps": ["one", "other"], "fewest_steps": ["one", "other"],
+    },
+    "freeing": {"freed": ["ledger", "remark"]},
+    "freechecker": {"lets_free": ["ledger", "remark", "thing"]},
+    "freepapers": {"free_paper": ["ledger", "remark"]},
 }
+CLASSES = {}
 OWN_ERRORS = set("NoPaper NoChange NoJoin NoName NoBase NoBranch NoStrike NoText NoRow".split())
 
 
@@ -78,6 +89,22 @@ def bound_names(tree):
             yield node.arg
         elif isinstance(node, ast.Name) and isinstance(node.ctx, ast.Store):
             yield node.id
+
+
+def own_methods():
+    """The names of all methods that the package defines."""
+    classes = [node for path in FILES for node in ast.walk(tree_of(path)) if isinstance(node, ast.ClassDef)]
+    return {method.name for node in classes for method in node.body if isinstance(method, ast.FunctionDef)}
+
+
+def own_attributes():
+    """The names of all attributes that the package assigns."""
+    nodes = [node for path in FILES for node in ast.walk(tree_of(path)) if isinstance(node, ast.Attribute)]
+    return {node.attr for node in nodes if isinstance(node.ctx, ast.Store)}
+
+
+def imported_names(tree):
+    return {alias.asname or alias.name for node in imports(tree) for alias in node.names}
 
 
 def imports(tree):
@@ -114,7 +141,6 @@ class Rules(unittest.TestCase):
                 here |= {each.targets[0].id for each in home.body if isinstance(each, ast.Assign)}
                 for alias in node.names:
                     self.assertIn(alias.name, here, path.name)
-                    self.assertIsNone(alias.asname, path.name)
 
     def test_no_import_goes_round(self):
         goes = {path.stem: {node.module.split(".")[1] for node in imports(tree_of(path))} for path in FILES}
@@ -126,7 +152,7 @@ class Rules(unittest.TestCase):
     def test_names(self):
         for path in FILES:
             tree = tree_of(path)
-            imported = {alias.name for node in imports(tree) for alias in node.names}
+            imported = imported_names(tree)
             classes = {node.name for node in tree.body if isinstance(node, ast.ClassDef)}
             functions = {node.name for node in tree.body if isinstance(node, ast.FunctionDef)}
             for name in bound_names(tree):
@@ -138,14 +164,34 @@ class Rules(unittest.TestCase):
                     self.assertNotIn(node.id, classes | functions, path.name)
 
     def test_builtins_and_methods(self):
+        methods = METHODS | own_methods()
         for path in FILES:
             tree = tree_of(path)
-            own = set(bound_names(tree)) | {alias.name for node in imports(tree) for alias in node.names}
+            own = set(bound_names(tree)) | imported_names(tree)
             for node in ast.walk(tree):
                 if isinstance(node, ast.Name) and isinstance(node.ctx, ast.Load):
                     self.assertIn(node.id, own | BUILTINS, path.name)
                 if isinstance(node, ast.Call) and isinstance(node.func, ast.Attribute):
-                    self.assertIn(node.func.attr, METHODS, path.name)
+                    self.assertIn(node.func.attr, methods, path.name)
+
+    def test_methods_and_attributes(self):
+        builtin = {name for kind in (str, int, list, dict, set, bytes, tuple) for name in dir(kind)}
+        methods = own_methods() - {"__init__"}
+        self.assertEqual(methods & own_attributes(), set())
+        self.assertEqual((methods | own_attributes()) & builtin, set())
+        self.assertEqual((methods | own_attributes()) & BARRED_NAMES, set())
+        nodes = [node for path in FILES for node in ast.walk(tree_of(path)) if isinstance(node, ast.Attribute)]
+        self.assertLessEqual({node.attr for node in nodes}, methods | own_attributes() | METHODS | {"__init__"})
+
+    def test_each_import_is_used_and_bound_once(self):
+        for path in FILES:
+            tree = tree_of(path)
+            bound = [alias.asname or alias.name for node in imports(tree) for alias in node.names]
+            bound += [node.name for node in tree.body if isinstance(node, (ast.FunctionDef, ast.ClassDef))]
+            bound += [node.targets[0].id for node in tree.body if isinstance(node, ast.Assign)]
+            self.assertEqual(len(bound), len(set(bound)), path.name)
+            used = {node.id for node in ast.walk(tree) if isinstance(node, ast.Name)}
+            self.assertLessEqual(imported_names(tree), used, path.name)
 
     def test_statements_and_expressions(self):
         barred = (ast.Global, ast.AsyncFunctionDef, ast.Await, ast.Div, ast.Starred, ast.SetComp, ast.Set)
@@ -181,6 +227,16 @@ class Rules(unittest.TestCase):
             for name, wanted in functions.items():
                 self.assertIn(name, here, stem)
                 self.assertEqual([arg.arg for arg in here[name].args.args], wanted, name)
+
+    def test_each_method_of_the_interface_stands_in_its_class(self):
+        for stem, classes in CLASSES.items():
+            here = {node.name: node for node in tree_of(PACKAGE / f"{stem}.py").body if isinstance(node, ast.ClassDef)}
+            for title, wanted in classes.items():
+                self.assertEqual(here[title].bases, [])
+                methods = {node.name: node for node in here[title].body if isinstance(node, ast.FunctionDef)}
+                self.assertEqual([arg.arg for arg in methods["__init__"].args.args], ["self"])
+                for name, arguments in wanted.items():
+                    self.assertEqual([arg.arg for arg in methods[name].args.args], ["self", *arguments], name)
 
 
 if __name__ == "__main__":

@@ -1,6 +1,6 @@
 """Odd things to hand in, and how a refusal is read."""
 
-from marginwords.errors import NoName, NoPaper
+from marginwords.errors import MarginError, NoName, NoPaper
 
 ODD = (
     None, True, False, 0, 1, -1, 10**199, -(10**199), "", "a", "shape", (), [], (None,), [None], ((),), [[]], ((), ()),
@@ -24,4 +24,13 @@ def name_refusal(ask, *things):
         ask(*things)
     except NoName as wrong:
         return (wrong.name,)
+    return None
+
+
+def refused(ask, *things):
+    """The name of the refusal and its fields, in the order in which they were handed to it; None where it is told."""
+    try:
+        ask(*things)
+    except MarginError as wrong:
+        return (type(wrong).__name__, *vars(wrong).values())
     return None
