@@ -71,8 +71,27 @@ INTERFACE = {
     "freeing": {"freed": ["ledger", "remark"]},
     "freechecker": {"lets_free": ["ledger", "remark", "thing"]},
     "freepapers": {"free_paper": ["ledger", "remark"]},
+    "standchecker": {"lets_stand": ["ledger", "remark", "thing"]},
+    "standpapers": {"stand_paper": ["ledger", "remark"]},
+    "lines": {"shown_change": ["change"], "shown_ledger": ["ledger"], "shown_stand": ["stand"]},
+    "readings": {"read_change": ["text"], "read_ledger": ["lines"]},
 }
-CLASSES = {}
+CLASSES = {
+    "sheet": {
+        "Sheet": {
+            "lay": ["change"], "names": [], "ledger": [], "signs": [], "text": [], "stand": ["remark"],
+            "word_of": ["remark"],
+        },
+    },
+    "book": {
+        "Book": {
+            "begin": ["branch", "other"], "do": ["branch", "hand", "deed"], "take_in": ["branch", "hand", "other"],
+            "bring": ["ledger"], "strike": [], "branches": [], "now": ["branch"], "whole": [], "own": [],
+            "view": ["name"],
+        },
+    },
+    "desk": {"Desk": {"say": ["row"]}},
+}
 OWN_ERRORS = set("NoPaper NoChange NoJoin NoName NoBase NoBranch NoStrike NoText NoRow".split())
 
 
